@@ -1,0 +1,1 @@
+"""Firmground: processes that run ahead of their logs."""
