@@ -140,6 +140,55 @@ class Code(unittest.TestCase):
                 self.assertIn(node.id, allowed, name)
                 self.assertIsInstance(node.ctx, ast.Load, name)
 
+    def test_is_stands_beside_none_true_and_false(self):
+        for name, node in nodes():
+            if isinstance(node, ast.Compare):
+                for sign, right in zip(node.ops, node.comparators):
+                    if isinstance(sign, (ast.Is, ast.IsNot)):
+                        self.assertIsInstance(right, ast.Constant, (name, node.lineno))
+
+    def test_exact_classes_are_asked_for_in_one_way(self):
+        for path in files():
+            tree = ast.parse(path.read_text())
+            asked = {id(node.left.func) for node in ast.walk(tree)
+                     if isinstance(node, ast.Compare) and isinstance(node.left, ast.Call)
+                     and isinstance(node.ops[0], (ast.Eq, ast.NotEq)) and len(node.ops) == 1
+                     and isinstance(node.comparators[0], ast.Name)}
+            for node in ast.walk(tree):
+                if isinstance(node, ast.Name) and node.id == "type":
+                    self.assertIn(id(node), asked, (path.name, node.lineno))
+
+    def test_imported_names_are_defined_in_that_very_file(self):
+        for name, node in nodes():
+            if isinstance(node, ast.ImportFrom) and node.module.startswith("firmground."):
+                home = ast.parse((ROOT / (node.module.replace(".", "/") + ".py")).read_text())
+                names = {each.name for each in home.body
+                         if isinstance(each, (ast.FunctionDef, ast.ClassDef))}
+                names |= {target.id for each in home.body if isinstance(each, ast.Assign)
+                          for target in each.targets}
+                for each in node.names:
+                    self.assertIn(each.name, names, name)
+                    self.assertFalse(each.name.startswith("_"), name)
+
+    def test_no_two_files_import_each_other(self):
+        above = {path.stem: {node.module.split(".")[1] for node in ast.walk(ast.parse(path.read_text()))
+                             if isinstance(node, ast.ImportFrom) and "." in node.module}
+                 for path in files()}
+        while above:
+            free = [name for name in above if not above[name] & set(above)]
+            self.assertNotEqual(free, [], above)
+            for name in free:
+                del above[name]
+
+    def test_each_imported_name_is_used(self):
+        for path in files():
+            tree = ast.parse(path.read_text())
+            used = {node.id for node in ast.walk(tree) if isinstance(node, ast.Name)}
+            for node in ast.walk(tree):
+                if isinstance(node, ast.ImportFrom):
+                    for each in node.names:
+                        self.assertIn(each.name, used, path.name)
+
     def test_handlers(self):
         for name, node in nodes():
             if isinstance(node, ast.ExceptHandler):

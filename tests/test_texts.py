@@ -4,104 +4,51 @@ import unittest
 
 from firmground import texts
 from firmground.texts import integer_of, is_integer, is_output, is_printable
-
-
-class Touchy:
-    """Raises at whatever is done with it."""
-
-    def refuse(self, *rest):
-        raise RuntimeError("touched")
-
-    __eq__ = __ne__ = __lt__ = __le__ = __gt__ = __ge__ = refuse
-    __bool__ = __len__ = __iter__ = __int__ = __index__ = __str__ = __repr__ = refuse
-    __hash__ = __contains__ = __getitem__ = refuse
-    __class__ = property(refuse)
-
-
-class PassesForString:
-    __class__ = str
-
-
-class PassesForInteger:
-    __class__ = int
-
-
-class TouchyString(str):
-    def refuse(self, *rest):
-        raise RuntimeError("touched")
-
-    __len__ = __iter__ = __eq__ = __getitem__ = refuse
-    __hash__ = None
-
-
-class TouchyInteger(int):
-    def refuse(self, *rest):
-        raise RuntimeError("touched")
-
-    __lt__ = __le__ = __gt__ = __ge__ = __eq__ = refuse
-    __hash__ = None
-
-
-def other_kinds():
-    """Values that are neither strings nor integers."""
-    return [
-        None, True, False, b"", b"a", bytearray(b"a"), [], ["a"], [1], (), ("a",), (1,),
-        {}, {"a": 1}, {1: "a"}, set(), {"a"}, frozenset(), 1.0, 0.0, float("nan"), 1j,
-        object(), object, str, int, len, lambda: "a", iter("ab"), range(3), ...,
-        NotImplemented, ValueError("a"), Touchy(), PassesForString(), PassesForInteger(),
-        TouchyString("a"), TouchyInteger(1),
-    ]
-
-
-class Answers(unittest.TestCase):
-    def check(self, function, value, expected, *more):
-        # Not in a message: some of the values can't be shown.
-        if function(value, *more) is not expected:
-            self.fail(f"{function.__name__} of a {type(value).__name__} is not {expected}")
+from tests.values import Answers, other_kinds
 
 
 class Printable(Answers):
     def test_strings(self):
         for value in ("", " ", "~", "a", "Z9", "set 0 -5", "(show 0)", "\"'\\{}", "x" * 100000):
-            self.check(is_printable, value, True)
+            self.check(is_printable, True, value)
 
     def test_each_character(self):
         good = set(range(32, 127)) - {37}
         for code in list(range(1200)) + [0x2028, 0xD800, 0xDFFF, 0xFF10, 0xFFFD, 0x10FFFF]:
             with self.subTest(code=code):
-                self.check(is_printable, chr(code), code in good)
+                self.check(is_printable, code in good, chr(code))
 
     def test_one_bad_character_anywhere(self):
         for code in (0, 9, 10, 13, 31, 37, 127, 128, 160, 233, 0x0663, 0x1F600):
             for text in ("{}ab", "a{}b", "ab{}"):
                 with self.subTest(code=code, text=text):
-                    self.check(is_printable, text.format(chr(code)), False)
+                    self.check(is_printable, False, text.format(chr(code)))
 
     def test_other_kinds(self):
         for value in other_kinds() + [0, 1, -1, 65]:
-            self.check(is_printable, value, False)
+            self.check(is_printable, False, value)
 
 
 class Output(Answers):
     def test_lengths(self):
         for length in (0, 1, 2, 39, 40):
             with self.subTest(length=length):
-                self.check(is_output, "~" * length, True)
+                self.check(is_output, True, "~" * length)
         for length in (41, 42, 80, 100000):
             with self.subTest(length=length):
-                self.check(is_output, "~" * length, False)
+                self.check(is_output, False, "~" * length)
 
     def test_characters(self):
         good = set(range(32, 127)) - {37}
         for code in range(300):
             with self.subTest(code=code):
-                self.check(is_output, chr(code), code in good)
-                self.check(is_output, "a" * 39 + chr(code), code in good)
-                self.check(is_output, chr(code) + "a" * 40, False)
+                self.check(is_output, code in good, chr(code))
+                self.check(is_output, code in good, "a" * 39 + chr(code))
+                self.check(is_output, False, chr(code) + "a" * 40)
 
     def test_other_kinds(self):
         for value in other_kinds() + [0, 1, -1, 65]:
-            self.check(is_output, value, False)
+            self.check(is_output, False, value)
 
 
 class Integer(Answers):
@@ -109,31 +56,31 @@ class Integer(Answers):
         for least, greatest in ((0, 3), (-5, 5), (-7, -2), (1, 10 ** 12), (-10 ** 6, 10 ** 6)):
             with self.subTest(least=least, greatest=greatest):
                 for value in (least, least + 1, greatest - 1, greatest):
-                    self.check(is_integer, value, True, least, greatest)
+                    self.check(is_integer, True, value, least, greatest)
                 for value in (least - 1, greatest + 1, least - 10 ** 9, greatest + 10 ** 30):
-                    self.check(is_integer, value, False, least, greatest)
+                    self.check(is_integer, False, value, least, greatest)
 
     def test_a_range_of_one_and_an_empty_one(self):
-        self.check(is_integer, 4, True, 4, 4)
-        self.check(is_integer, 3, False, 4, 4)
-        self.check(is_integer, 5, False, 4, 4)
+        self.check(is_integer, True, 4, 4, 4)
+        self.check(is_integer, False, 3, 4, 4)
+        self.check(is_integer, False, 5, 4, 4)
         for value in (3, 4, 5):
-            self.check(is_integer, value, False, 5, 3)
+            self.check(is_integer, False, value, 5, 3)
 
     def test_zero_and_great_numbers(self):
-        self.check(is_integer, 0, True, -1, 1)
-        self.check(is_integer, 0, True, 0, 0)
-        self.check(is_integer, 10 ** 5000, False, 0, 10 ** 12)
-        self.check(is_integer, -10 ** 5000, False, -10, 10)
+        self.check(is_integer, True, 0, -1, 1)
+        self.check(is_integer, True, 0, 0, 0)
+        self.check(is_integer, False, 10 ** 5000, 0, 10 ** 12)
+        self.check(is_integer, False, -10 ** 5000, -10, 10)
 
     def test_true_and_false_are_none(self):
         for value in (True, False):
-            self.check(is_integer, value, False, 0, 1)
-            self.check(is_integer, value, False, -10, 10)
+            self.check(is_integer, False, value, 0, 1)
+            self.check(is_integer, False, value, -10, 10)
 
     def test_other_kinds(self):
         for value in other_kinds() + ["", "1", "0", "a", " "]:
-            self.check(is_integer, value, False, -10, 10)
+            self.check(is_integer, False, value, -10, 10)
 
 
 class IntegerOf(unittest.TestCase):
