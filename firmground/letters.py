@@ -1,5 +1,6 @@
 """Clocks, and the letters between processes and the desk (points 108 and 110 to 112)."""
 
+from firmground.clocks import zero
 from firmground.errors import BadLetter
 from firmground.limits import DESK, MOST_NUMBER
 from firmground.payloads import is_group, is_payload, is_process, kind_of
@@ -79,7 +80,7 @@ def _is_someone(count, form, value):
 def _is_clock_of(sender, clock):
     """Tell whether an input of this sender can have this clock."""
     if sender == DESK:
-        return all([pair == (0, 0) for pair in clock])
+        return clock == zero(len(clock))
     return clock[sender][1] >= 1
 
 
